@@ -1,0 +1,1 @@
+"""Typegate: classes that are judged before they run."""
