@@ -13,6 +13,10 @@ def file(name="A", parent="Object", interfaces=(), flags=("public",), fields=(),
     return ClassFile(name, parent, interfaces, flags, fields, methods)
 
 
+def face(name="I", interfaces=(), methods=(), flags=("public", "abstract", "interface")):
+    return ClassFile(name, "Object", interfaces, flags, (), methods)
+
+
 def code(rows=(("return",),), handlers=(), frames=(), stack=0, places=0):
     return Code(stack, places, rows, handlers, frames)
 
@@ -36,6 +40,16 @@ def no_integers():
 
 def no_rows():
     return odd_things() + [None, 0, 1, "", "A", "public"]
+
+
+class ErrorCase(unittest.TestCase):
+    """A test case that can ask for an error with its attributes."""
+
+    def raises(self, error, told, do, *arguments, **more):
+        with self.assertRaises(error) as caught:
+            do(*arguments, **more)
+        self.assertIs(type(caught.exception), error, arguments)
+        self.assertEqual(vars(caught.exception), told, arguments)
 
 
 class FormCase(unittest.TestCase):

@@ -3,7 +3,10 @@
 import unittest
 
 from typegate.classes import ClassFile, Code
+from typegate.forms import fault
+from typegate.loading import interfaces_of, loading_error
 from typegate.names import parameters
+from typegate.types import fits, least
 from typegate.worlds import World
 
 
@@ -16,6 +19,34 @@ class Examples(unittest.TestCase):
         small = World({"a": {"I": face}})
         self.assertTrue(small.file_of(("a", "I")) == face)
         self.assertEqual(face.flags, ("public", "abstract", "interface"))
+
+    def test_fits_and_least(self):
+        face = ClassFile("I", "Object", [], ["public", "abstract", "interface"], [], [])
+        small = World({"a": {"I": face}})
+        self.assertIs(fits(small, "a", ("object", "[I"), ("object", "Object")), True)
+        self.assertIs(fits(small, "a", ("object", "Object"), ("object", "I")), True)
+        self.assertIs(fits(small, "a", ("object", "[I"), ("object", "I")), False)
+        self.assertIs(fits(small, "a", ("object", "[I"), ("object", "I"), loose=True), True)
+        self.assertEqual(least(small, "a", ("object", "RuntimeException"), ("object", "Error")), ("object", "Throwable"))
+        self.assertEqual(least(small, "a", ("object", "[[I"), ("object", "[LString;")), ("object", "[LObject;"))
+
+    def test_the_classes_of_the_examples_load_well(self):
+        code = Code(1, 1, [("iload", 0), ("ifge", 5), ("iload", 0), ("ineg",), ("ireturn",), ("iload", 0), ("ireturn",)],
+                    [], [(5, ["int"], [])])
+        start = Code(1, 1, [("aload", 0), ("invokevirtual", "B", "go", "()V"), ("return",)], [], [])
+        for made in (ClassFile("A", "Object", [], ["public"], [], [("abs", "(I)I", ["public", "static"], code)]),
+                     ClassFile("A", "Object", (), ("public",), (), ()),
+                     ClassFile("B", "Object", [], ["public"], [], [("<init>", "()V", ["public"], start)])):
+            self.assertIsNone(fault(made))
+            self.assertIsNone(loading_error(World({"a": {made.name: made}}), ("a", made.name)))
+
+    def test_interfaces(self):
+        def made(name, interfaces):
+            return ClassFile(name, "Object", interfaces, ["public", "abstract", "interface"], [], [])
+        world = World({"a": {"A": ClassFile("A", "Object", ["I"], ["public"], [], []),
+                             "B": ClassFile("B", "A", ["J", "K"], ["public"], [], []),
+                             "I": made("I", []), "J": made("J", ["I"]), "K": made("K", [])}})
+        self.assertEqual(interfaces_of(world, ("a", "B")), [("a", "J"), ("a", "I"), ("a", "K")])
 
     def test_abs(self):
         code = Code(1, 1, [("iload", 0), ("ifge", 5), ("iload", 0), ("ineg",), ("ireturn",), ("iload", 0), ("ireturn",)],

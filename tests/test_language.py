@@ -203,7 +203,9 @@ class Nodes(unittest.TestCase):
                     self.assertTrue(isinstance(other, ast.Constant) and other.value in (None, True, False), path)
 
     def test_every_function_is_used_or_promised(self):
-        promised = set("parameters result is_name is_class_name file_of __init__ __eq__".split())
+        promised = set(
+            "parameters result is_name is_class_name file_of text_bytes bytes_text fault denoted loading_error line"
+            " interfaces_of is_below fits least __init__ __eq__".split())
         used = {node.id for _, node in nodes(ast.Name)} | {node.attr for _, node in nodes(ast.Attribute)}
         for path, node in nodes(ast.FunctionDef):
             self.assertIn(node.name, used | promised, path)

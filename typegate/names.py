@@ -47,6 +47,38 @@ def is_type_name(thing):
     return is_class_name(thing) or is_field_descriptor(thing) and thing.startswith("[")
 
 
+def is_array(name):
+    """Return whether a type name is that of arrays."""
+    return name.startswith("[")
+
+
+def type_name_of(descriptor):
+    """Return the type name of a field's descriptor, or None for a letter."""
+    if descriptor in LETTERS:
+        return None
+    return descriptor if is_array(descriptor) else descriptor[1:-1]
+
+
+def held_by(array):
+    """Return the type name of what arrays of this type name hold, or None if they hold letters."""
+    return type_name_of(array[1:])
+
+
+def innermost(array):
+    """Return the name of the class in the type name of arrays, or None if there is none."""
+    return type_name_of(array.lstrip("["))
+
+
+def array_of(name):
+    """Return the type name of the arrays that hold things of this type name."""
+    return "[" + name if is_array(name) else "[L" + name + ";"
+
+
+def package_of(name):
+    """Return the package of a class name."""
+    return name.rpartition("/")[0]
+
+
 def places_of(descriptors):
     """Return how many places values of these descriptors take together."""
     return sum([2 if descriptor == "J" else 1 for descriptor in descriptors])

@@ -4,6 +4,7 @@ from typegate.base import base_files, is_base_name
 from typegate.classes import ClassFile
 from typegate.errors import NotDefined, NoWorld
 from typegate.kinds import is_tuple_of
+from typegate.lineage import Lineage
 from typegate.names import is_class_name
 
 LONGEST_LOADER = 10
@@ -15,17 +16,38 @@ class World:
     def __init__(self, loaders):
         _look_at_loaders(loaders)
         _look_at_answers(loaders)
+        self._loaders = ("base", *loaders)
         self._files = {("base", name): file for name, file in base_files().items()}
+        self._asked = {}
         for loader in loaders:
             for name, answer in loaders[loader].items():
                 if isinstance(answer, ClassFile):
                     self._files[loader, name] = answer
+                else:
+                    self._asked[loader, name] = answer
+        self.lineage = Lineage(self)
 
     def file_of(self, cls):
         """Return the ClassFile of a class."""
         if not _is_pair_of_strings(cls) or cls not in self._files:
             raise NotDefined(cls)
         return self._files[cls]
+
+    def classes(self):
+        """Return the list of all classes."""
+        return list(self._files)
+
+    def has_loader(self, thing):
+        """Return whether any object is the name of a loader."""
+        return thing in self._loaders
+
+    def class_for(self, loader, name):
+        """Return the class that a class name denotes for a loader, or None."""
+        while (loader, name) in self._asked:
+            loader = self._asked[loader, name]
+        if (loader, name) in self._files:
+            return (loader, name)
+        return ("base", name) if is_base_name(name) else None
 
 
 def _is_pair_of_strings(thing):
