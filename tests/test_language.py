@@ -115,11 +115,42 @@ class Modules(unittest.TestCase):
     def test_what_stands_at_module_level(self):
         for path, tree in trees():
             self.assertIsNotNone(ast.get_docstring(tree), path)
+            functions = []
             for node in tree.body[1:]:
                 self.assertIsInstance(node, (ast.ImportFrom, ast.FunctionDef, ast.ClassDef, ast.Assign))
+                if isinstance(node, ast.FunctionDef):
+                    functions.append(node.name)
                 if isinstance(node, ast.Assign):
                     self.assertTrue(len(node.targets) == 1 and isinstance(node.targets[0], ast.Name))
-                    ast.literal_eval(node.value)
+                    self.plain(node.value, functions)
+
+    def test_lists_and_dicts_are_only_read(self):
+        """A list or dict at module level is indexed, iterated over, tested, or passed on as a copy."""
+        named = set()
+        for _, tree in trees():
+            for node in tree.body:
+                if isinstance(node, ast.Assign) and isinstance(node.value, (ast.Dict, ast.List)):
+                    named.add(node.targets[0].id)
+        for path, tree in trees():
+            parents = {child: node for node in ast.walk(tree) for child in ast.iter_child_nodes(node)}
+            for node in ast.walk(tree):
+                if isinstance(node, ast.Name) and isinstance(node.ctx, ast.Load) and node.id in named:
+                    above = parents[node]
+                    right = (isinstance(above, (ast.Subscript, ast.Compare, ast.For, ast.comprehension))
+                             or isinstance(above, ast.Attribute) and above.attr in ("get", "items", "keys", "values")
+                             or isinstance(above, ast.Call) and getattr(above.func, "id", "") in ("list", "dict", "len", "sorted"))
+                    self.assertTrue(right, (path, node.lineno, node.id))
+                    if isinstance(above, ast.Subscript):
+                        self.assertIsInstance(above.ctx, ast.Load, path)
+
+    def plain(self, value, functions):
+        """A value that is written out, or a dict of functions that are defined above."""
+        if isinstance(value, ast.Dict) and all(isinstance(worth, ast.Name) for worth in value.values):
+            self.assertLessEqual({worth.id for worth in value.values}, set(functions))
+            value = ast.Tuple(value.keys, ast.Load())
+        told = ast.literal_eval(value)
+        for thing in (list(told.values()) if isinstance(told, dict) else told if isinstance(told, (list, tuple)) else []):
+            self.assertNotIsInstance(thing, (list, dict, set))
 
     def test_a_name_is_bound_once(self):
         for path, tree in trees():
@@ -205,7 +236,8 @@ class Nodes(unittest.TestCase):
     def test_every_function_is_used_or_promised(self):
         promised = set(
             "parameters result is_name is_class_name file_of text_bytes bytes_text fault denoted loading_error line"
-            " interfaces_of is_below fits least __init__ __eq__".split())
+            " interfaces_of is_below fits least judged fault_of frames_of needed frames_found read written resolved_type"
+            " resolved_field resolved_method asked __init__ __eq__".split())
         used = {node.id for _, node in nodes(ast.Name)} | {node.attr for _, node in nodes(ast.Attribute)}
         for path, node in nodes(ast.FunctionDef):
             self.assertIn(node.name, used | promised, path)

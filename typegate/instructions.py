@@ -109,13 +109,17 @@ def _agrees(row):
     return True
 
 
-def has_right_pairs(row):
-    """Return whether the integers of a switch ascend, and no pair leads where all others lead."""
+def ascends(row):
+    """Return whether the integers of an instruction, if it is a switch, ascend."""
     if row[0] != "switch":
         return True
     pairs = row[1]
-    ascend = all([pairs[k][0] < pairs[k + 1][0] for k in range(len(pairs) - 1)])
-    return ascend and all([pair[1] != row[2] for pair in pairs])
+    return all([pairs[k][0] < pairs[k + 1][0] for k in range(len(pairs) - 1)])
+
+
+def has_right_pairs(row):
+    """Return whether the integers of a switch ascend, and no pair leads where all others lead."""
+    return ascends(row) and (row[0] != "switch" or all([pair[1] != row[2] for pair in row[1]]))
 
 
 def targets(row):
