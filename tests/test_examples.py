@@ -1,4 +1,4 @@
-"""The examples of the document, as far as what has landed goes."""
+"""The examples of the document."""
 
 import unittest
 
@@ -9,6 +9,7 @@ from typegate.finding import frames_found, needed
 from typegate.forms import fault
 from typegate.judge import fault_of, frames_of, judged
 from typegate.loading import interfaces_of, loading_error
+from typegate.machine import Machine
 from typegate.names import parameters
 from typegate.resolving import asked
 from typegate.types import fits, least
@@ -66,6 +67,8 @@ class Examples(unittest.TestCase):
         self.assertEqual(asked(world, ("a", "A"), "abs", ("invokestatic", "A", "abs", "(I)I")), ("a", "A", "abs", "(I)I"))
         self.assertEqual(asked(world, ("a", "A"), "abs", ("invokevirtual", "A", "abs", "(I)I")),
                          "IncompatibleClassChangeError")
+        self.assertEqual(Machine(world).call("a", "A", "abs", "(I)I", [-7]), ("returned", 7))
+        self.assertEqual(Machine(world).call("a", "A", "abs", "(I)I", [-2147483648]), ("returned", -2147483648))
         self.assertTrue(read(written(made)) == made)
         with self.assertRaises(NoClass) as caught:
             read([202, 254, 186, 191])

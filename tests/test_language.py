@@ -217,6 +217,16 @@ class Nodes(unittest.TestCase):
         for path, node in nodes(ast.Attribute):
             self.assertIn(node.attr, stored | called, (path, node.lineno))
 
+    def test_attributes_are_assigned_through_local_names(self):
+        for path, node in nodes(ast.Attribute):
+            if isinstance(node.ctx, ast.Store):
+                self.assertIsInstance(node.value, ast.Name, (path, node.lineno))
+
+    def test_no_name_is_a_method_and_an_attribute(self):
+        methods = {part.name for _, node in nodes(ast.ClassDef) for part in node.body if isinstance(part, ast.FunctionDef)}
+        stored = {node.attr for _, node in nodes(ast.Attribute) if isinstance(node.ctx, ast.Store)}
+        self.assertEqual(methods & stored, set())
+
     def test_constants(self):
         for path, tree in trees():
             told = docstrings(tree)
@@ -237,7 +247,8 @@ class Nodes(unittest.TestCase):
         promised = set(
             "parameters result is_name is_class_name file_of text_bytes bytes_text fault denoted loading_error line"
             " interfaces_of is_below fits least judged fault_of frames_of needed frames_found read written resolved_type"
-            " resolved_field resolved_method asked __init__ __eq__".split())
+            " resolved_field resolved_method asked overrides called call seen sort_of is_raw held statics stands names_of"
+            " use_demands class_demands all_demands quarrel can_quarrel is_quarrel __init__ __eq__".split())
         used = {node.id for _, node in nodes(ast.Name)} | {node.attr for _, node in nodes(ast.Attribute)}
         for path, node in nodes(ast.FunctionDef):
             self.assertIn(node.name, used | promised, path)

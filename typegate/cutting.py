@@ -38,7 +38,7 @@ def _cut_one(reader, at):
     if opcode in WHOLE:
         return Piece(at, opcode, ())
     if opcode in (TABLE, LOOKUP):
-        reader.row(3 - (at & 3))
+        reader.next_bytes(3 - (at & 3))
         return Piece(at, opcode, _cut_table(reader, at) if opcode == TABLE else _cut_lookup(reader, at))
     if opcode == WIDE:
         return _cut_wide(reader, at)
@@ -111,7 +111,7 @@ def _row_of(piece, starts, pool):
         return ("newarray", LETTERS[numbers[0]])
     if opcode in FIELDS:
         _want_link(piece, pool, ("field",))
-        return (FIELDS[opcode], *pool.member(numbers[0]))
+        return (FIELDS[opcode], *pool.named_member(numbers[0]))
     if opcode in CALLS:
         return _call_of(piece, pool)
     if opcode in CLASSES:
@@ -142,7 +142,7 @@ def _want_link(piece, pool, sorts):
 def _call_of(piece, pool):
     word = CALLS[piece.opcode]
     sort = _want_link(piece, pool, ("method", "interface method"))
-    cls, name, descriptor = pool.member(piece.numbers[0])
+    cls, name, descriptor = pool.named_member(piece.numbers[0])
     of_interface = sort == "interface method"
     if word == "invokeinterface":
         is_right = of_interface

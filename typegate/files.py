@@ -59,7 +59,7 @@ def _read_class_name(reader, pool):
 
 def _read_parent(reader, pool):
     """Return the name of the parent, or None where the link is 0."""
-    if reader.row(2) == (0, 0):
+    if reader.next_bytes(2) == (0, 0):
         return None
     reader.at -= 2
     return _read_class_name(reader, pool)
@@ -76,7 +76,7 @@ def written(file):
     if pool.many() > MOST_INDEXES:
         raise NoWriting("large", -1)
     head = number_bytes(MAGIC, 4) + number_bytes(LEAST_VERSION, 4) + number_bytes(pool.many() + 1, 2)
-    return head + pool.row() + body
+    return head + pool.all_bytes() + body
 
 
 def _body_bytes(file, pool):

@@ -18,7 +18,7 @@ class Filling:
         """Return how many indexes are taken."""
         return self._many
 
-    def row(self):
+    def all_bytes(self):
         """Return the list of the bytes of all entries."""
         return [byte for entry in self._entries for byte in entry]
 

@@ -40,7 +40,7 @@ class Layout:
                         return False
         return True
 
-    def row(self):
+    def all_bytes(self):
         """Return the list of all bytes."""
         data = []
         for index in range(len(self._rows)):

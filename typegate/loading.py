@@ -63,14 +63,14 @@ def interfaces_of(world, cls):
 
 def is_below(world, one, other):
     """Return whether one class or array stands below another one."""
-    _look_at_type(world, one)
-    _look_at_type(world, other)
+    look_at_type(world, one)
+    look_at_type(world, other)
     if _is_told_as_array(one):
         return other in ABOVE_ARRAYS
     return other in line(world, one)[1:] or other in interfaces_of(world, one)
 
 
-def _look_at_type(world, thing):
+def look_at_type(world, thing):
     """Raise NotDefined or NotFound for what is neither a class that loads well nor an array of such."""
     if not _is_told_as_array(thing):
         look_at_class(world, thing)

@@ -6,18 +6,25 @@ from typegate.packages import are_neighbours
 
 def field_flags(world, cls, name, descriptor):
     """Return the flags of a field that a class declares, or None if it declares none."""
-    return _flags_among(world.file_of(cls).fields, name, descriptor)
+    field = _among(world.file_of(cls).fields, name, descriptor)
+    return None if field is None else field[2]
 
 
 def method_flags(world, cls, name, descriptor):
     """Return the flags of a method that a class declares, or None if it declares none."""
-    return _flags_among(world.file_of(cls).methods, name, descriptor)
+    method = declared_method(world, cls, name, descriptor)
+    return None if method is None else method[2]
 
 
-def _flags_among(members, name, descriptor):
+def declared_method(world, cls, name, descriptor):
+    """Return a method as the ClassFile of a class tells it, or None if it declares none."""
+    return _among(world.file_of(cls).methods, name, descriptor)
+
+
+def _among(members, name, descriptor):
     for member in members:
         if member[0] == name and member[1] == descriptor:
-            return member[2]
+            return member
     return None
 
 

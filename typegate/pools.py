@@ -43,7 +43,7 @@ class Pool:
         """Return the text to which a class or a string leads."""
         return self.told(self.told(index)[0])
 
-    def member(self, index):
+    def named_member(self, index):
         """Return the class name, the name and the descriptor to which an entry for a member leads."""
         cls, pair = self.told(index)
         name, descriptor = self.told(pair)
@@ -91,7 +91,7 @@ def _read_entry(reader):
 
 
 def _read_text(reader, place):
-    data = reader.row(reader.number(2))
+    data = reader.next_bytes(reader.number(2))
     try:
         text = bytes_text(data)
     except NoText:

@@ -23,7 +23,7 @@ class Reader:
         self.at = begin
         self.end = end
 
-    def row(self, many):
+    def next_bytes(self, many):
         """Return the next bytes, as a row."""
         if many > self.end - self.at:
             raise Ended()
@@ -33,7 +33,7 @@ class Reader:
     def number(self, many):
         """Return the number that the next bytes tell."""
         worth = 0
-        for byte in self.row(many):
+        for byte in self.next_bytes(many):
             worth = worth * 256 + byte
         return worth
 
@@ -45,7 +45,7 @@ class Reader:
 
     def inside(self, many):
         """Go on behind the next bytes, and return a Reader of them alone."""
-        self.row(many)
+        self.next_bytes(many)
         return Reader(self._data, self.at - many, self.at)
 
     def is_done(self):

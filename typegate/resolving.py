@@ -35,7 +35,7 @@ def resolved_type(world, user, name):
     look_at_class(world, user)
     if not is_type_name(name):
         raise NoType(name)
-    return _type_for(world, user, name)
+    return type_for(world, user, name)
 
 
 def resolved_field(world, user, reference):
@@ -57,7 +57,8 @@ def _look_at_reference(thing):
         raise NoReference(thing)
 
 
-def _type_for(world, user, name):
+def type_for(world, user, name):
+    """Return the same as resolved_type, for arguments that are known to be right."""
     inner = innermost(name) if is_array(name) else name
     if inner is None:
         return ("base", name)
@@ -74,7 +75,7 @@ def _type_for(world, user, name):
 
 def _field_for(world, user, reference):
     name, descriptor = reference[1:]
-    found = _type_for(world, user, reference[0])
+    found = type_for(world, user, reference[0])
     if isinstance(found, str):
         return found
     declaring = None if is_array(reference[0]) else _class_of_field(world, found, name, descriptor)
@@ -106,7 +107,7 @@ def _named_interfaces(world, cls):
 
 def _method_for(world, user, reference):
     name, descriptor = reference[1:]
-    found = _type_for(world, user, reference[0])
+    found = type_for(world, user, reference[0])
     if isinstance(found, str):
         return found
     of_array = is_array(reference[0])
@@ -143,8 +144,18 @@ def _class_of_method(world, cls, name, descriptor):
 def asked(world, user, method, row):
     """Return what an instruction of a method of a user resolves, an error name, or None if it asks for nothing."""
     look_at_class(world, user)
-    if not is_instruction(row) or not ascends(row):
-        raise NoRow(row)
+    look_at_row(row)
+    return answer(world, user, method, row)
+
+
+def look_at_row(thing):
+    """Raise NoRow for what is no instruction."""
+    if not is_instruction(thing) or not ascends(thing):
+        raise NoRow(thing)
+
+
+def answer(world, user, method, row):
+    """Return the same as asked, for arguments that are known to be right."""
     word = row[0]
     if word in FIELDS:
         return _asked_field(world, user, method, row)
@@ -152,7 +163,7 @@ def asked(world, user, method, row):
         return _asked_method(world, user, row)
     if word == "new":
         return _asked_class(world, user, row[1])
-    return _type_for(world, user, row[1]) if word in OF_TYPES else None
+    return type_for(world, user, row[1]) if word in OF_TYPES else None
 
 
 def _asked_field(world, user, method, row):
@@ -170,7 +181,7 @@ def _asked_field(world, user, method, row):
 
 def _asked_method(world, user, row):
     by_interface, wants_static = CALLS[row[0]]
-    referred = _type_for(world, user, row[1])
+    referred = type_for(world, user, row[1])
     if isinstance(referred, str):
         return referred
     if (not is_array(row[1]) and is_interface(world, referred)) != by_interface:
@@ -186,7 +197,7 @@ def _asked_method(world, user, row):
 
 
 def _asked_class(world, user, name):
-    found = _type_for(world, user, name)
+    found = type_for(world, user, name)
     if isinstance(found, str):
         return found
     # Every interface is abstract.

@@ -20,7 +20,7 @@ class Task:
         # Most entries are equal, and fits looks at its arguments each time.
         return one == other or fits(self.world, self.cls[0], one, other, loose=self.loose)
 
-    def own(self):
+    def own_entry(self):
         """Return the entry for objects of the class itself."""
         return ("object", self.cls[1])
 

@@ -44,7 +44,7 @@ def _look_at_object(task, state, row, entry):
     state.want(task.can_stand(entry, ("object", row[1])), "sort")
     if not _is_protected_above(task, row) or _is_copied_array(row, entry):
         return
-    state.want(task.can_stand(entry, task.own()), "protected")
+    state.want(task.can_stand(entry, task.own_entry()), "protected")
 
 
 def _is_protected_above(task, row):
@@ -86,7 +86,7 @@ def call_method(task, state, row):
         _make_ready(task, state, row)
     elif word in ("invokespecial", "invokespecial_i"):
         state.want(_may_be_special(task, row[1]), "special")
-        state.want(task.can_stand(state.stack.pop(), task.own()), "sort")
+        state.want(task.can_stand(state.stack.pop(), task.own_entry()), "sort")
     elif has_object:
         _look_at_object(task, state, row, state.stack.pop())
     if result(descriptor) != "V":
@@ -106,7 +106,7 @@ def _make_ready(task, state, row):
     entry = state.stack.pop()
     if entry == "this":
         state.want(row[1] in (task.cls[1], task.parent_name()), "sort")
-        state.put_all("this", task.own())
+        state.put_all("this", task.own_entry())
         state.flag = False
         return
     state.want(isinstance(entry, tuple) and entry[0] == "new", "sort")

@@ -47,7 +47,7 @@ def _code_bytes(code, number, entries, pool):
     starts = layout.starts
     if starts[-1] > MOST_BYTES:
         raise NoWriting("large", number)
-    data = number_bytes(code.stack, 2) + number_bytes(code.places, 2) + number_bytes(starts[-1], 4) + layout.row()
+    data = number_bytes(code.stack, 2) + number_bytes(code.places, 2) + number_bytes(starts[-1], 4) + layout.all_bytes()
     data += number_bytes(len(code.handlers), 2)
     for begin, end, target, kind in code.handlers:
         for index in (begin, end, target):
