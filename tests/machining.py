@@ -61,6 +61,12 @@ class MachineCase(ErrorCase):
         self.assertEqual(machine.sort_of(found[1]), expected)
         return machine, found[1]
 
+    def leaves(self, left, put, row):
+        """What a row leaves on the stack, above a long that stands there."""
+        seen = Machine(self.world([("lconst", 9), *put, row, ("nop",), ("nop",)])).seen("a", "A", "go", "()V", [])
+        below = [one[3] for one in seen].index(1 + len(put))
+        self.assertEqual(seen[below + 1][5], [("long", 9), "half", *left], row)
+
     def ends(self, rows, **more):
         """A method with these rows and a return ends without giving anything."""
         machine, found = self.run_rows([*rows, ("return",)], **more)

@@ -193,6 +193,9 @@ class Switches(CutCase):
     def test_keys_that_do_not_ascend(self):
         for one, other in ((1, 1), (2, 1), (0, -1), (2 ** 31 - 1, -2 ** 31)):
             self.uncut("switch", 1, [0, 171, 0, 0] + u4(0, 2, one, 0, other, 0))
+        for one, other, third in ((1, 3, 2), (1, 2, 2), (2, 1, 3)):
+            self.uncut("switch", 1, [0, 171, 0, 0] + u4(0, 3, one, 0, other, 0, third, 0))
+        self.assertEqual(self.code([171, 0, 0, 0] + u4(0, 3, 1, 0, 2, 0, 3, 0)).rows, (("switch", (), 0),))
         # Only when the instruction is whole.
         self.uncut("cut", 0, [171, 0, 0, 0] + u4(0, 2, 1, 0, 1) + [0, 0, 0])
         self.uncut("switch", 0, [171, 0, 0, 0] + u4(0, 2, 1, 99, 1, 99))

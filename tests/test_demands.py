@@ -337,6 +337,12 @@ class Quarrels(ErrorCase):
             self.assertIs(is_quarrel(world, ("X", told)), True, told)
         self.assertIs(is_quarrel(world, ("X", ("a", "c"))), False)
 
+    def test_no_loader_stands_twice(self):
+        world = self.chain(["ab", "ac"], {"a": file("X"), "b": file("X"), "c": file("X")})
+        self.assertIs(is_quarrel(world, ("X", ("b", "a", "c"))), True)
+        for told in (("b", "a", "b", "a", "c"), ("a", "b", "a", "c"), ("b", "a", "c", "a")):
+            self.assertIs(is_quarrel(world, ("X", told)), False, told)
+
     def test_by_names(self):
         world = self.chain(["ab"], {"a": file("X"), "b": file("X")})
         self.assertEqual((quarrel(world=world), can_quarrel(world=world), is_quarrel(thing=("X", ("a", "b")), world=world)),

@@ -33,6 +33,7 @@ class Needed(JudgeCase):
         for row in (("goto", 0), ("switch", (), 0), ("athrow",), ("ireturn",), ("lreturn",), ("areturn",), ("return",)):
             jump = [0] if len(row) > 1 else []
             self.told(jump + [1], [row, ("nop",), ("nop",)])
+            self.told(jump + [1], [row, ("nop",)])
             self.told(jump, [("nop",), row])
         for row in (("nop",), ("monitorexit",), ("invokestatic", "A", "m", "()V"), ("ifeq", 0)):
             self.told([0] if row[0] == "ifeq" else [], [row, ("nop",)])

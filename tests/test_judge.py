@@ -341,6 +341,13 @@ class HandlersOfInits(JudgeCase):
         self.fault((4, "handler"), rows, [(6, ["top", ("new", 0)], [ERROR])], [(4, 5, 6, None)])
         self.fault(None, rows, [(6, [], [ERROR])], [(4, 5, 6, None)])
 
+    def test_a_ready_object_stays_in_the_locals(self):
+        # The rule is looked at behind the handler, which sees the object of the call in the locals.
+        rows = [("aload", 0), ("invokespecial", "A", "<init>", "()V"), ("return",), ("athrow",)]
+        self.fault((1, "sort"), rows, [(3, [thing("A")], [ERROR])], [(1, 2, 3, None)])
+        rows[0] = ("iload", 0)
+        self.fault((1, "sort"), rows, [(3, [INT], [ERROR])], [(1, 2, 3, None)], descriptor="(I)V", flags=["static"])
+
     def test_too_few_entries_for_the_call(self):
         rows = [("new", "B"), ("astore", 1), ("invokespecial", "B", "<init>", "()V"), ("return",), ("athrow",)]
         self.fault((2, "depth"), rows, [(4, ["top", ("new", 0)], [ERROR])], [(2, 3, 4, None)])
@@ -445,6 +452,13 @@ class OneMethod(JudgeCase):
         self.assertEqual(frames_of(self.world, self.cls, "m", "(I)V"), [
             (("int", "top"), (), False), (("int", "top"), ("int",), False), (("int", "top"), (), False),
             (("int", "top"), (), False)])
+
+    def test_frames_of_is_strict(self):
+        rows = [("iconst", 1), ("newarray", "I"), ("areturn",)]
+        told = method("m", descriptor="()LI;", body=Code(1, 1, rows, [], []))
+        world = World({"a": {"A": file(methods=[told]), "I": face("I")}})
+        self.assertIsNone(fault_of(world, self.cls, "m", "()LI;", loose=True))
+        self.raises(NotRight, {"index": 2, "word": "sort"}, frames_of, world, self.cls, "m", "()LI;")
 
     def test_by_names(self):
         self.assertIsNone(fault_of(loose=True, frames=[(3, [], [])], descriptor="(I)V", method="m", cls=self.cls,

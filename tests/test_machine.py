@@ -175,6 +175,15 @@ class Outcomes(MachineCase):
                                            ([("string", "x"), ("areturn",)], "()LString;", ("returned", ("ref", 1)))):
             self.assertEqual(self.run_rows(rows, descriptor=descriptor)[1], expected)
 
+    def test_calls_on_objects(self):
+        rows = [("aload", 0), ("getfield", "A", "f", "I"), ("iload", 3), ("iadd",), ("i2l",), ("lload", 1), ("lsub",), ("lreturn",)]
+        methods = [made("m", rows, "(JI)J", ("public",)), made("give", [*new("B"), ("dup",), I, ("putfield", "A", "f", "I"), ("areturn",)], "()LA;")]
+        machine = Machine(self.world(methods=methods))
+        _, reference = machine.call("a", "A", "give", "()LA;", [])
+        self.assertEqual(machine.call("a", "A", "m", "(JI)J", [reference, 100, 7]), ("returned", -88))
+        self.assertEqual(machine.seen("a", "A", "m", "(JI)J", [reference, 100, 7])[0][4][:5],
+                         [("ref", 1), ("long", 100), "half", ("int", 7), "unset"])
+
     def test_thrown(self):
         machine, found = self.run_rows([N, ("athrow",)])
         self.assertEqual(found, ("thrown", ("ref", 1)))
@@ -329,6 +338,18 @@ class Seen(MachineCase):
         machine.seen("a", "A", "go", "()V", [])
         self.assertEqual(machine.held(("ref", 1))["a", "A", "f", "I"], 0)
         self.assertEqual(machine.call("a", "A", "out", "()V", [])[0], "thrown")
+
+    def test_the_copy_has_all_that_the_machine_has(self):
+        make = [*new("A"), ("dup",), I, ("putfield", "A", "f", "I"), ("putstatic", "A", "u", "LA;"), ("getstatic", "A", "u", "LA;"), ("monitorenter",),
+                I, ("putstatic", "A", "s", "I"), ("iconst", 7), ("newarray", "I"), ("dup",), ("iconst", 2), I, ("iastore",), ("areturn",)]
+        look = [("getstatic", "A", "u", "LA;"), ("getfield", "A", "f", "I"), ("getstatic", "A", "s", "I"), ("aload", 0), ("arraylength",), ("aload", 0),
+                ("iconst", 2), ("iaload",), ("getstatic", "A", "u", "LA;"), ("monitorexit",), ("string", "x"), ("return",)]
+        clinit = ("<clinit>", "()V", ("static",), body([("string", "x"), ("pop",), ("return",)]))
+        machine = Machine(self.world(methods=[made("make", make, "()[I"), made("look", look, "([I)V"), clinit]))
+        _, array = machine.call("a", "A", "make", "()[I", [])
+        seen = machine.seen("a", "A", "look", "([I)V", [array])
+        self.assertEqual([one[1] for one in seen], ["look"] * 12)
+        self.assertEqual(seen[-1][5], [("int", 5), ("int", 5), ("int", 7), ("int", 5), ("ref", 1)])
 
     def test_arrays_of_the_copy_are_copies(self):
         methods = [made("set", [("iconst", 1), ("newarray", "I"), ("areturn",)], "()[I"),

@@ -69,6 +69,21 @@ class Static(MachineCase):
                 ("invokestatic", "A", "sum", "(I)I"), ("iload", 0), ("iadd",), ("ireturn",)]
         self.gives(210, [("iconst", 20), ("invokestatic", "A", "sum", "(I)I")], methods=[made("sum", rows, "(I)I")])
 
+    def test_many_calls_one_behind_the_other(self):
+        rows = [("iconst", 0), ("istore", 1), ("invokestatic", "A", "m", "()V"), ("iinc", 1, 1), ("iload", 1), ("iconst", 200), ("if_icmplt", 2),
+                ("return",)]
+        self.assertEqual(self.run_rows(rows, methods=[made("m", [("return",)])])[1], ("returned",))
+        rows[2:3] = [N, ("invokestatic", "A", "m", "(LA;)V"), ("nop",)]
+        rows[8] = ("if_icmplt", 2)
+        handlers = [(2, 4, 9, None)]
+        rows[9:] = [("pop",), ("iinc", 1, 1), ("iload", 1), ("iconst", 200), ("if_icmplt", 2), ("return",)]
+        methods = [made("m", [("aload", 0), ("athrow",)], "(LA;)V")]
+        self.assertEqual(self.run_rows(rows, methods=methods, handlers=handlers)[1], ("returned",))
+
+    def test_just_room_for_the_arguments(self):
+        methods = [made("m", [("lload", 1), ("lreturn",)], "(IJ)J", places=3)]
+        self.gives(6, [I, J, ("invokestatic", "A", "m", "(IJ)J")], result="J", methods=methods)
+
     def test_an_uncut_method(self):
         methods = [("u", "(J)V", STATIC, Uncut("map", 0))]
         _, found = self.run_rows([J, ("invokestatic", "A", "u", "(J)V")], methods=methods)
@@ -136,6 +151,12 @@ class Virtual(MachineCase):
         self.gives(2, [*new("D"), ("invokevirtual", "D", "own", "()I")], more=above)
         self.wrong("kind", [*new("C"), ("invokespecial", "D", "m", "()I")], more=above)
 
+    def test_special_ones_of_interfaces(self):
+        more = {"K": face("K", methods=[made("m", [I, ("ireturn",)], "()I", PUBLIC)]),
+                "D": file("D", "Object", ["K"], methods=[init(), made("m", [("iconst", 2), ("ireturn",)], "()I", PUBLIC), made(
+                    "up", [("aload", 0), ("invokespecial_i", "K", "m", "()I"), ("ireturn",)], "()I", PUBLIC)])}
+        self.gives(5, [*new("D"), ("invokevirtual", "D", "up", "()I")], more=more)
+
     def test_native_ones(self):
         methods = [("n", "()V", ("public", "native"), None), ("s", "()V", ("public", "static", "native"), None)]
         self.throws("UnsatisfiedLinkError", [*new("A"), ("invokevirtual", "A", "n", "()V")], methods=methods)
@@ -156,6 +177,14 @@ class Native(MachineCase):
         self.gives(1, [I, ("newarray", "I"), ("invokevirtual", "[I", "hashCode", "()I")])
         self.wrong("raw", [RAW, ("invokevirtual", "Object", "hashCode", "()I")])
         self.throws(NULL, [N, ("invokevirtual", "Object", "hashCode", "()I")])
+
+    def test_what_they_leave(self):
+        for row, put, left in ((("invokevirtual", "Object", "hashCode", "()I"), new("Copy"), [("int", 1)]),
+                               (("invokevirtual", "Object", "equals", "(LObject;)Z"), [*new("Copy"), N], [("int", 0)]),
+                               (("invokevirtual", "[I", "clone", "()LObject;"), [I, ("newarray", "I")], [("ref", 2)]),
+                               (("invokespecial", "Object", "<init>", "()V"), [("new", "Object")], [])):
+            seen = Machine(self.world([J, *put, row, ("return",)])).seen("a", "A", "go", "()V", [])
+            self.assertEqual(seen[-1][5], [("long", 6), "half", *left])
 
     def test_equality(self):
         row = ("invokevirtual", "Object", "equals", "(LObject;)Z")
@@ -373,6 +402,15 @@ class Synchronized(MachineCase):
         machine, found = self.counts(("public", "static", "synchronized"), [("return",)], call)
         self.assertEqual(machine.sort_of(("ref", 1)), ("base", "Class"))
 
+    def test_twice(self):
+        # Behind the inner call the monitor is still entered once.
+        rows = [("iload", 1), ("ifne", 3), ("return",), ("aload", 0), ("iconst", 0), ("invokevirtual", "A", "m", "(I)V"), ("aload", 0), ("monitorexit",),
+                ("aload", 0), ("monitorenter",), ("return",)]
+        methods = [made("m", rows, "(I)V", ("public", "synchronized"))]
+        self.ends([*new("A"), ("iconst", 1), ("invokevirtual", "A", "m", "(I)V")], methods=methods)
+        self.throws("IllegalMonitorStateException", [*new("A"), ("dup",), ("astore", 1), ("iconst", 1), ("invokevirtual", "A", "m", "(I)V"),
+                                                     ("aload", 1), ("monitorexit",)], methods=methods)
+
     def test_they_leave_when_they_throw(self):
         call = [*new("A"), ("dup",), ("astore", 1), ("invokevirtual", "A", "m", "()V"), ("return",), ("pop",), ("aload", 1), ("monitorexit",)]
         machine, found = self.run_rows([*call, ("return",)], methods=[made("m", [N, ("athrow",)], "()V", ("public", "synchronized"))],
@@ -526,6 +564,15 @@ class Begin(ErrorCase):
         rows = [I, ("putstatic", "P", "s", "I"), ("getstatic", "P", "s", "I"), ("putstatic", "T", "log", "I")]
         self.runs(5, rows, self.line())
 
+    def test_steps_behind_a_beginning_that_throws(self):
+        classes = {"P": file("P", methods=[init(), self.log(1, [N, ("athrow",)])])}
+        rows = [("new", "P"), ("goto", 3), ("nop",), ("pop",), ("return",)]
+        world = self.world(rows, classes, handlers=[(0, 1, 3, None)])
+        seen = Machine(world).seen("a", "T", "go", "()V", [])
+        self.assertEqual([one[3] for one in seen if one[1] == "go"], [0, 3, 4])
+        self.assertEqual(Machine(world).call("a", "T", "go", "()V", [], steps=len(seen)), ("returned",))
+        self.assertEqual(Machine(world).call("a", "T", "go", "()V", [], steps=len(seen) - 1), ("open", "steps"))
+
     def test_a_begin_is_no_step(self):
         world = self.world([("new", "D"), ("return",)], self.line())
         seen = Machine(world).seen("a", "T", "go", "()V", [])
@@ -548,6 +595,18 @@ class Begin(ErrorCase):
         for name in ("ExceptionInInitializerError", MISSING, MISSING):
             found = machine.call("a", "D", "s", "()V", [])
             self.assertEqual((found[0], machine.sort_of(found[1])), ("thrown", ("base", name)))
+
+    def test_a_call_on_an_object_begins_nothing(self):
+        """The object was kept by a class that is broken since."""
+        more = [*new("D"), ("putstatic", "K", "d", "LD;"), N, ("athrow",)]
+        classes = {"K": file("K", fields=[("d", "LD;", ("public", "static"), None)], methods=[
+                       made("get", [("getstatic", "K", "d", "LD;"), ("areturn",)], "()LD;")]),
+                   "D": file("D", methods=[init(), self.log(2, more), made("s", [("return",)]), made("v", [("return",)], flags=PUBLIC)])}
+        machine = Machine(self.world([("return",)], classes))
+        self.assertEqual(machine.call("a", "D", "s", "()V", [])[0], "thrown")
+        _, kept = machine.call("a", "K", "get", "()LD;", [])
+        self.assertEqual(machine.call("a", "D", "v", "()V", [kept]), ("returned",))
+        self.assertEqual(machine.call("a", "D", "s", "()V", [])[0], "thrown")
 
     def test_a_clinit_that_is_wrong(self):
         classes = {"D": file("D", methods=[init(), ("<clinit>", "()V", ("static",), body([("iadd",)]))]),

@@ -44,7 +44,7 @@ class Constants(MachineCase):
 
 class Numbers(MachineCase):
     VALUES = [0, 1, -1, 2, -7, 31, 33, HIGH, LOW, 65535, -65536]
-    WIDE = VALUES + [2 ** 40, -2 ** 40 + 3, HIGHEST, LOWEST, 63, 65]
+    WIDE = VALUES + [2 ** 32 + 5, 2 ** 33 + 2 ** 31, 2 ** 40, -2 ** 40 + 3, HIGHEST, LOWEST, 63, 65]
 
     def test_ints(self):
         for word, operation in OPERATIONS.items():
@@ -102,6 +102,16 @@ class Numbers(MachineCase):
         for one in self.WIDE:
             for other in self.WIDE:
                 self.gives((one > other) - (one < other), [("lconst", one), ("lconst", other), ("lcmp",)])
+
+    def test_what_they_leave(self):
+        for put, word, left in (([I, I], "iadd", [("int", 10)]), ([I], "ineg", [("int", -5)]), ([J, J], "ladd", [("long", 12), "half"]),
+                                ([J], "lneg", [("long", -6), "half"]), ([J, I], "lshl", [("long", 192), "half"]), ([I], "i2l", [("long", 5), "half"]),
+                                ([J], "l2i", [("int", 6)]), ([I], "i2b", [("int", 5)]), ([J, J], "lcmp", [("int", 0)])):
+            self.leaves(left, put, (word,))
+        for put, row in (([I], ("ifeq", 0)), ([I, I], ("if_icmpne", 0)), ([N], ("ifnonnull", 0)), ([N, N], ("if_acmpne", 0)), ([I], ("istore", 1)),
+                         ([J], ("lstore", 1)), ([N], ("astore", 1))):
+            self.leaves([], put, row)
+        self.leaves([], [I], ("switch", (), 3))
 
     def test_what_they_take(self):
         one_int = ["ineg", "i2l", "i2b", "i2c", "i2s"]
@@ -182,6 +192,16 @@ class Locals(MachineCase):
         self.wrong("unset", [("iinc", 19, 1)])
         self.wrong("local", [("iinc", 20, 1)])
 
+    def test_places_beside_a_store_keep_what_they_hold(self):
+        rows = [("iconst", number) for number in (1, 2, 3)]
+        for at, put in ((1, ("istore", 1)), (1, ("astore", 1))):
+            told = [rows[0], ("istore", 0), rows[1], ("istore", at), rows[2], ("istore", 2), ("iconst", 4) if put[0] == "istore" else N, put]
+            self.gives(1, told + [("iload", 0)])
+            self.gives(3, told + [("iload", 2)])
+        self.gives(1, [rows[0], ("istore", 0), J, ("lstore", 1), ("iload", 0)])
+        self.gives(3, [rows[2], ("istore", 3), J, ("lstore", 1), ("iload", 3)])
+        self.gives(7, [("iconst", 7), ("istore", 19), I, ("istore", 0), ("iload", 19)])
+
     def test_stores_over_longs(self):
         # The long begins at 3: what its two places are behind a store that hits one of them.
         for store, states in ((("istore", 3), {3: "set", 4: "unset"}), (("istore", 4), {3: "unset", 4: "set"}),
@@ -254,7 +274,8 @@ class Jumps(MachineCase):
             rows = [("iconst", number), ("switch", ((LOW, 4), (5, 6), (HIGH, 8)), 2), ("iconst", 0), ("ireturn",), ("iconst", 1),
                     ("ireturn",), ("iconst", 2), ("ireturn",), ("iconst", 3)]
             self.gives(expected, rows)
-        self.gives(4, [I, ("switch", (), 3), ("nop",), ("iconst", 4)])
+        self.gives(4, [I, ("switch", (), 3), N, ("iconst", 4)])
+        self.gives(4, [I, ("switch", (), 4), ("iconst", 3), ("ireturn",), ("iconst", 4)])
 
     def test_what_they_take(self):
         for word in ("ifeq", "ifne", "iflt", "ifge", "ifgt", "ifle"):

@@ -341,7 +341,7 @@ class Casts(MachineCase):
                 (new("A"), "J", False), (new("C"), "I", False), (new("A"), "Object", True), (array, "[LB;", True), (array, "[LA;", True),
                 (array, "[LI;", True), (array, "[LC;", False), (array, "[LObject;", True),
                 (array, "Object", True), (array, "Cloneable", True), (array, "Serializable", True), (array, "I", False),
-                (array, "[[LB;", False), (new("A"), "[LA;", False), ([("string", "x")], "String", True),
+                (array, "[[LB;", False), (array, "[I", False), (array, "[J", False), (new("A"), "[LA;", False), ([("string", "x")], "String", True),
                 ([("iconst", 1), ("newarray", "I")], "[I", True), ([("iconst", 1), ("newarray", "I")], "[J", False),
                 ([("iconst", 1), ("newarray", "I")], "[LObject;", False), ([I, ("anewarray", "[I")], "[LObject;", True),
                 ([I, ("anewarray", "[I")], "[LCloneable;", True), ([I, ("anewarray", "[I")], "[[I", True)):
@@ -366,6 +366,23 @@ class Casts(MachineCase):
             self.wrong("sort", [I, (word, "A")])
             self.wrong("sort", [J, (word, "A")])
             self.wrong("raw", [RAW, (word, "A")])
+
+
+class Left(MachineCase):
+    def test_what_each_row_leaves(self):
+        own, array, items = new("A"), [("iconst", 2), ("newarray", "I")], [("iconst", 2), ("anewarray", "A")]
+        for put, row, left in (
+                ([I], ("putstatic", "A", "s", "I"), []), ([J], ("putstatic", "A", "t", "J"), []), ([*own, I], ("putfield", "A", "f", "I"), []),
+                ([*own, J], ("putfield", "A", "l", "J"), []), (own, ("getfield", "A", "f", "I"), [("int", 0)]),
+                (own, ("getfield", "A", "l", "J"), [("long", 0), "half"]), ([], ("getstatic", "A", "u", "LA;"), [None]),
+                ([I], ("newarray", "I"), [("ref", 1)]), ([I], ("anewarray", "A"), [("ref", 1)]), ([I, I], ("multianewarray", "[[I", 2), [("ref", 1)]),
+                (array, ("arraylength",), [("int", 2)]), ([*array, ("iconst", 1)], ("iaload",), [("int", 0)]),
+                ([*items, ("iconst", 1)], ("aaload",), [None]), ([*array, ("iconst", 1), I], ("iastore",), []),
+                ([*items, ("iconst", 1), N], ("aastore",), []), (own, ("checkcast", "A"), [("ref", 1)]), (own, ("instanceof", "A"), [("int", 1)]),
+                (own, ("monitorenter",), []), ([*own, ("dup",), ("monitorenter",)], ("monitorexit",), []),
+                ([("iconst", 2), ("newarray", "J"), ("iconst", 1), J], ("lastore",), []),
+                ([("iconst", 2), ("newarray", "J"), ("iconst", 1)], ("laload",), [("long", 0), "half"])):
+            self.leaves(left, put, row)
 
 
 class Monitors(MachineCase):

@@ -141,6 +141,10 @@ class Places(MapCase):
         self.frames([(0, ("int", "int", "int", "int", "long", ("object", "A")), ())], u2(1) + [0], descriptor="(BSCIJLA;)V")
         self.frames([(0, (), ())], u2(1) + [0], flags=8, name=32)
 
+    def test_the_beginning_of_an_init_of_object(self):
+        changes = {"own": u2(3), "method flags": u2(0), "method name": u2(26), "map": u2(1) + [2]}
+        self.assertEqual(self.made(changes).methods[0][3].frames, ((2, (OBJECT,), ()),))
+
 
 class Many(MapCase):
     def test_255_entries(self):

@@ -59,6 +59,8 @@ class Heads(DraftCase):
 
     def test_no_pool(self):
         self.wrong("pool", "many", {"many": u2(0)})
+        # One that has no entries is no pool that is wrong.
+        self.raises(NoClass, {"at": 12, "why": "link"}, read, PARTS["magic"] + PARTS["version"] + u2(1, 33, 1))
 
     def test_the_first_one_is_told(self):
         self.wrong("magic", "magic", {"magic": [1, 2, 3, 4], "version": [1, 0, 0, 0]})
@@ -174,6 +176,7 @@ class Links(DraftCase):
     def test_methods(self):
         self.made({23: [10] + u2(14, 24)})
         self.made({28: [10] + u2(14, 27)})
+        self.made({24: [12] + u2(10, 39)})
         self.wrong("name", 28, {27: [12] + u2(32, 11)})
         self.wrong("descriptor", 28, {27: [12] + u2(26, 39)})
         self.wrong("descriptor", 28, {27: [12] + u2(26, 6)})

@@ -53,6 +53,9 @@ JUMPS.update({"if_acmpeq": [REFERENCES] * 2, "if_acmpne": [REFERENCES] * 2, "ifn
 class Taken(JudgeCase):
     def test_right_entries(self):
         for row, (sorts, left) in TAKEN.items():
+            if not sorts:
+                self.leaves(left, row, [])
+                self.leaves([LONG, "top"] + left, row, [LONG, "top"])
             for place, sort in enumerate(sorts):
                 for entry in sort:
                     stack = [one[0] for one in sorts]
@@ -277,7 +280,7 @@ class Returns(JudgeCase):
             self.word(None, ("areturn",), [entry], result=result)
         for entry, result in ((thing("P"), "LA;"), (INT, "LA;"), ("top", "LA;"), (("new", 2), "LA;"), (thing("[I"), "LI;"),
                               (NULL, "V"), (thing("A"), "V"), (INT, "V"), (LONG, "V"), (thing("[LP;"), "[LA;"), (NULL, "I"),
-                              (thing("A"), "J")):
+                              (thing("A"), "J"), (INT, "I"), (LONG, "J")):
             self.word("sort", ("areturn",), [entry], result=result)
         self.word("NoClassDefFoundError", ("areturn",), [thing("A")], result="LGone;")
         self.word("NoClassDefFoundError", ("areturn",), [thing("Gone")], result="LA;")

@@ -343,6 +343,20 @@ class Specially(CallCase):
             self.calls(("a", "P"), world, row, actual)
         self.calls("NoSuchMethodError", world, ("invokespecial", "U", "<init>", "()V"), ("a", "U"))
 
+    def test_inits_of_a_class_further_up(self):
+        told = {"flags": ["public"], "name": "<init>"}
+        world = World({"a": {"U": file("U", "P"), "P": classed("P", "Q", **told), "Q": classed("Q", **told)}})
+        self.calls(("a", "Q"), world, ("invokespecial", "Q", "<init>", "()V"), ("a", "Q"))
+
+    def test_private_methods_of_interfaces(self):
+        world = World({"a": {"I": faced("I", [], "private"), "C": classed("C", "Object", ["I"])}})
+        self.calls(("a", "I"), world, ("invokespecial_i", "I", *KEY), ("a", "C"), ("a", "I"))
+
+    def test_methods_that_are_not_public(self):
+        for flags in ((), ("protected",)):
+            self.special(("a", "A"), "A", A=flags)
+            self.special(("a", "B"), "B", A=("public",), B=flags)
+
 
 class Static(CallCase):
     def test_the_resolved_one(self):

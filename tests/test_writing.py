@@ -274,6 +274,8 @@ class Switches(WriteCase):
         self.assertEqual(self.switch((5, 7)), [170] + u4(25, 5, 7, 0, 25, 0))
         self.assertEqual(self.switch((5, 8)), [171] + u4(25, 2, 5, 0, 8, 0))
         self.assertEqual(self.switch((1, 2, 5)), [170] + u4(33, 1, 5, 0, 0, 33, 33, 0))
+        self.assertEqual(self.switch((1, 2, 3, 4, 10))[:5], [171] + u4(49))
+        self.assertEqual(self.switch((1, 2, 3, 4, 9))[:5], [170] + u4(49))
         self.assertEqual(self.switch((1, 2, 6)), [171] + u4(33, 3, 1, 0, 2, 0, 6, 0))
 
     def test_least_and_greatest_keys(self):
@@ -383,17 +385,22 @@ class Refused(WriteCase):
         self.raises(NoWriting, {"why": "form", "method": -1}, written, file(methods=[uncut, uncut]))
 
     def test_the_pool(self):
-        def made(many):
+        def made(many, last=("nop",)):
             # The class, its parent, the methods' names, descriptor and Code: 5 + 3 entries, and one of a string two.
             rows = [[("string", str(k))] for k in range(many)]
             rows = [row for part in rows for row in part]
+            rows.append(last)
             half = len(rows) // 2
             return file(parent="A", methods=[("m", "()V", ["static"], Code(1, 0, rows[:half] + [("return",)], [], [])),
                                              ("n", "()V", ["static"], Code(1, 0, rows[half:] + [("return",)], [], []))])
         data = written(made(32764))
         self.assertEqual(data[8:10], u2(6 + 2 * 32764 + 1))
         self.assertEqual(read(data), made(32764))
-        self.raises(NoWriting, {"why": "large", "method": -1}, written, made(32765))
+        for wrong in (made(32765), made(32764, ("iconst", 99999)), made(32763, ("lconst", 9)), made(32763, ("string", "text"))):
+            if wrong.methods[1][3].rows[-2][0] in ("nop", "iconst"):
+                self.raises(NoWriting, {"why": "large", "method": -1}, written, wrong)
+            else:
+                self.assertEqual(written(wrong)[8:10], u2(65535))
 
     def test_by_name(self):
         self.assertEqual(read(data=written(file=file())), file())

@@ -48,7 +48,8 @@ def _take_raw(run, frame, found, taking):
     thing = run.memory.thing(reference)
     if not thing.raw:
         raise Wrong("raw")
-    if frame.name == "<init>" and reference == frame.own:
+    # Only in an <init> the object of a frame is raw.
+    if reference == frame.own:
         taking.want_kind(is_of(run.memory.world, thing.actual, found[:2]))
     else:
         taking.want_kind(thing.actual == found[:2])

@@ -2,9 +2,8 @@
 
 from typegate.base import is_base_name
 from typegate.classes import Code
-from typegate.errors import NoDescriptor
 from typegate.loading import interfaces_of, is_interface, line, loading_error
-from typegate.names import is_field_descriptor, is_method_descriptor, parameters, result, type_name_of
+from typegate.names import is_field_descriptor, parameters, result, type_name_of
 from typegate.resolving import asked
 from typegate.selecting import chosen, first_along, from_interfaces, is_open, overridden_by
 
@@ -13,10 +12,9 @@ def names_of(descriptor):
     """Return the list of the names of classes in a descriptor, but those of base classes."""
     if is_field_descriptor(descriptor):
         sorts = [descriptor]
-    elif is_method_descriptor(descriptor):
-        sorts = parameters(descriptor) + [result(descriptor)]
     else:
-        raise NoDescriptor()
+        # These refuse what is no descriptor of a method.
+        sorts = parameters(descriptor) + [result(descriptor)]
     found = {}
     for sort in sorts:
         name = None if sort == "V" else type_name_of(sort.lstrip("["))
@@ -55,10 +53,9 @@ def class_demands(world, cls):
     demands = []
     # This one refuses what is no class that loads well.
     above = line(world, cls)
-    for name, descriptor, flags, _ in world.file_of(cls).methods:
-        if is_open(flags):
-            for member in overridden_by(world, (*cls, name, descriptor)):
-                demands += _between(descriptor, cls[0], member[0])
+    for name, descriptor, _, _ in world.file_of(cls).methods:
+        for member in overridden_by(world, (*cls, name, descriptor)):
+            demands += _between(descriptor, cls[0], member[0])
     if not is_interface(world, above[0]):
         demands += _demands_of_interfaces(world, cls)
     return _in_order(demands)

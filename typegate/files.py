@@ -1,7 +1,7 @@
 """Classes as files of bytes: reading them, and writing them."""
 
 from typegate.classes import ClassFile
-from typegate.errors import NoBytes, NoClass, NoFile, NoWriting
+from typegate.errors import NoBytes, NoClass, NoWriting
 from typegate.filling import Filling
 from typegate.forms import fault
 from typegate.names import is_array
@@ -67,8 +67,7 @@ def _read_parent(reader, pool):
 
 def written(file):
     """Return the list of the bytes that tell a ClassFile."""
-    if not isinstance(file, ClassFile):
-        raise NoFile()
+    # This one refuses what is no ClassFile.
     if fault(file) is not None:
         raise NoWriting("form", -1)
     pool = Filling()

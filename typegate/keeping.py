@@ -52,8 +52,8 @@ def put_field(run, frame, row):
     """Take an object, and what becomes a field of it."""
     taking = Taking(run, frame, 1 + places_of([row[3]]))
     member = run.asked(frame, row)
-    is_own = frame.name == "<init>" and frame.cls == member[:2]
-    if is_own and taking.first() is not None and taking.first() == frame.own:
+    # The object of a frame is raw only in an <init>.
+    if frame.cls == member[:2] and taking.first() == frame.own:
         reference = taking.any_reference()
     else:
         reference = taking.ready_reference()

@@ -57,7 +57,7 @@ class MapReader:
 
     def _told_places(self, tag, entries):
         """Return the list of the locals of a frame with this tag, or None."""
-        if tag < 248 or tag == 251:
+        if tag < 248:
             return entries
         if tag < 251:
             many = len(entries) - (251 - tag)

@@ -127,7 +127,7 @@ def jump(run, frame, row):
     by_number = word not in ("ifnull", "ifnonnull", "if_acmpeq", "if_acmpne")
     taking = Taking(run, frame, 2 if "cmp" in word else 1)
     one = taking.number() if by_number else taking.any_reference()
-    other = 0 if by_number else None
+    other = 0
     if "cmp" in word:
         other = taking.number() if by_number else taking.any_reference()
     taking.drop()
@@ -179,9 +179,8 @@ def move(run, frame, row):
 
 def _want_group(places):
     """Stop the machine where a long stands without its half, or a half without its long."""
-    if len(places) == 2 and is_number(places[0], "long"):
-        return
-    want_sort(not any([place == "half" or is_number(place, "long") for place in places]))
+    # A long that is parted from its half leaves this half in the next group.
+    want_sort("half" not in places or len(places) == 2 and is_number(places[0], "long"))
 
 
 MOVING = {

@@ -159,7 +159,7 @@ def _text_at(pool, index):
 
 
 def _is_name_of_array(text):
-    return text is not None and is_type_name(text) and is_array(text)
+    return is_type_name(text) and is_array(text)
 
 
 def _is_right_descriptor(sort, name, descriptor):

@@ -28,7 +28,7 @@ def is_quarrel(world, thing):
     if not is_tuple_of(thing, 2) or not isinstance(thing[1], tuple) or len(thing[1]) < 2:
         return False
     name, loaders = thing
-    if not isinstance(name, str) or not all([isinstance(loader, str) for loader in loaders]):
+    if not all([isinstance(loader, str) for loader in loaders]):
         return False
     if len(set(loaders)) < len(loaders):
         return False
@@ -64,8 +64,6 @@ def _answer(world, name, loader):
 
 def _shortest(world, name, near, loader):
     """Return the shortest and least tuple of loaders from one to another with an unlike class, or None."""
-    if _answer(world, name, loader) is None:
-        return None
     seen = {loader: True}
     ways = [(loader,)]
     while len(ways) > 0:

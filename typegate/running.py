@@ -40,7 +40,8 @@ class Frame:
             raise Wrong("jump")
         if not self._goes_on:
             run.count_step(self)
-            if self.index == 0 and self._is_crowded:
+            # This is told of the first row, with the index 0.
+            if self._is_crowded:
                 raise Wrong("local")
         self._goes_on = True
         target = obey(run, self, self._rows[self.index])
@@ -113,7 +114,8 @@ class Beginning:
         memory = run.memory
         memory.begun[self._cls] = "broken"
         run.tower.pop()
-        if self._has_run and not is_of(memory.world, memory.thing(reference).actual, ERROR):
+        # What a class throws that begins ahead of this one is an Error already.
+        if not is_of(memory.world, memory.thing(reference).actual, ERROR):
             return memory.made_object(("base", "ExceptionInInitializerError"))
         return reference
 

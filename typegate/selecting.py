@@ -19,7 +19,7 @@ def overrides(world, member, other):
 
 def _is_method(world, thing):
     """Return whether any object is a method that a class of the world that loads well declares."""
-    if not is_tuple_of(thing, 4) or not all([isinstance(part, str) for part in thing]):
+    if not is_tuple_of(thing, 4):
         return False
     cls = thing[:2]
     if cls not in world.classes() or loading_error(world, cls) is not None:
@@ -31,7 +31,7 @@ def overridden_by(world, member):
     """Return the list of the methods that a method overrides."""
     cls, name, descriptor = member[:2], member[2], member[3]
     flags = method_flags(world, cls, name, descriptor)
-    if name == "<init>" or not is_open(flags):
+    if not is_open(flags):
         return []
     above = line(world, cls)
     methods = [_methods_of(world, one) for one in above]
@@ -83,7 +83,8 @@ def chosen(world, user, row, found, actual):
     if told is None:
         return from_interfaces(world, OBJECT if is_array(actual[1]) else actual, found[2], found[3])
     flags = method_flags(world, told[:2], told[2], told[3])
-    if by_interface and "public" not in flags and "private" not in flags:
+    # It is not private, as one that is private stands for itself alone.
+    if by_interface and "public" not in flags:
         return "IllegalAccessError"
     return "AbstractMethodError" if "abstract" in flags else told
 
@@ -94,10 +95,11 @@ def first_along(world, found, actual):
     of_interface = is_interface(world, found[:2])
     for cls in line(world, OBJECT if is_array(actual[1]) else actual):
         told = (*cls, name, descriptor)
-        flags = method_flags(world, cls, name, descriptor)
-        if of_interface and is_open(flags):
-            return told
-        if not of_interface and flags is not None and (told == found or found in overridden_by(world, told)):
+        if of_interface:
+            stands = is_open(method_flags(world, cls, name, descriptor))
+        else:
+            stands = told == found or found in overridden_by(world, told)
+        if stands:
             return told
     return None
 

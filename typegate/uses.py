@@ -3,7 +3,7 @@
 from typegate.entries import entry_of
 from typegate.loading import line, looked_for
 from typegate.members import field_flags, method_flags
-from typegate.names import is_array, parameters, result
+from typegate.names import parameters, result
 from typegate.packages import are_neighbours
 from typegate.resolving import FIELDS, resolved_field, resolved_method
 from typegate.states import is_object_of_array
@@ -49,8 +49,6 @@ def _look_at_object(task, state, row, entry):
 
 def _is_protected_above(task, row):
     """Return whether an instruction uses, by a parent of the class, a protected member of another package."""
-    if is_array(row[1]):
-        return False
     parents = line(task.world, task.cls)[1:]
     return task.world.class_for(task.cls[0], row[1]) in parents and _is_protected_elsewhere(task, row)
 
