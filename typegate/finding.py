@@ -19,7 +19,7 @@ def needed(code):
             found[target] = True
         if row[0] in LAST_WORDS and index + 1 < len(code.rows):
             found[index + 1] = True
-    return sorted(found)
+    return sorted(list(found))
 
 
 def _is_whole(code):

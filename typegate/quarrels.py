@@ -11,7 +11,7 @@ def quarrel(world):
     demands = all_demands(world)
     for name in sorted(set([demand[0] for demand in demands])):
         near = _neighbours(demands, name)
-        for loader in sorted(near):
+        for loader in sorted(list(near)):
             found = _shortest(world, name, near, loader)
             if found is not None and (best is None or len(found) < len(best[1])):
                 best = (name, found)
