@@ -438,6 +438,14 @@ class Frames(MachineCase):
         methods = [made("deep", rows, "(I)I", handlers=[(2, 3, 4, "StackOverflowError")])]
         self.gives(63, [("iconst", 0), ("invokestatic", "A", "deep", "(I)I")], methods=methods)
 
+    def test_frames_that_have_ended_do_not_count(self):
+        rows = [("iload", 0), ("ifne", 3), ("return",), ("iload", 0), ("iconst", 1), ("isub",), ("invokestatic", "A", "deep", "(I)V"), ("return",)]
+        first = [("iconst", 1), ("invokestatic", "A", "deep", "(I)V")] * 5
+        for many, right in ((62, True), (63, False)):
+            machine, found = self.run_rows([*first, ("iconst", many), ("invokestatic", "A", "deep", "(I)V"), ("return",)],
+                                           methods=[made("deep", rows, "(I)V")])
+            self.assertEqual(found[0], "returned" if right else "thrown")
+
     def test_natives_have_no_frames(self):
         methods = [made("deep", [("iload", 0), ("ifne", 7), *new("Object"), ("invokevirtual", "Object", "hashCode", "()I"), ("return",),
                                  ("iload", 0), ("iconst", 1), ("isub",), ("invokestatic", "A", "deep", "(I)V"), ("return",)], "(I)V")]

@@ -180,7 +180,7 @@ def move(run, frame, row):
 def _want_group(places):
     """Stop the machine where a long stands without its half, or a half without its long."""
     # A long that is parted from its half leaves this half in the next group.
-    want_sort("half" not in places or len(places) == 2 and is_number(places[0], "long"))
+    want_sort("half" not in places or is_number(places[0], "long"))
 
 
 MOVING = {
