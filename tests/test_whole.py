@@ -90,6 +90,53 @@ class Interface(unittest.TestCase):
                     self.assertEqual(thing.__bases__, (errors.TypegateError,))
 
 
+class ByNames(ErrorCase):
+    """Each function, method and class called by names alone, in two orders, and by position."""
+
+    def arguments(self):
+        rows = [("aconst_null",), ("invokestatic", "T", "m", "(LX;)V"), ("return",)]
+        told = file("A", "Object", ["I"], methods=[made("go", rows), init(), ("v", "()V", ("public",), code(places=1))])
+        world = World({"a": {"A": told, "T": "b", "X": file("X"), "I": face("I")},
+                       "b": {"T": file("T", methods=[made("m", [("return",)], "(LX;)V")]), "X": file("X")}})
+        own = dict(world=world, cls=("a", "A"), user=("a", "A"), loader="a", name="A", method="go", descriptor="()V", thing=("X", ("a", "b")),
+                   row=rows[1], actual=("a", "A"), member=("a", "A", "v", "()V"), other=("a", "A", "v", "()V"), one=("a", "A"),
+                   file=told, data=written(told), text="ab", code=told.methods[0][3], arguments=[], reference=("A", "v", "()V"),
+                   loaders={"a": {"A": told}}, frames=[], steps=7, loose=True, entry="null", place=None)
+        more = {"fits": dict(one="null", other=("object", "A")), "least": dict(one="null", other=("object", "A")), "bytes_text": dict(data=[65]),
+                "is_below": dict(one=("a", "A"), other=("a", "I")), "sort_of": dict(reference=("ref", 1)), "is_raw": dict(reference=("ref", 1)),
+                "held": dict(reference=("ref", 1)), "is_name": dict(thing="A"), "is_class_name": dict(thing="A"),
+                "Code": dict(stack=1, places=1, rows=rows, handlers=[], frames=[]), "Uncut": dict(why="map", at=0),
+                "ClassFile": dict(name="A", parent=None, interfaces=[], flags=[], fields=[], methods=[])}
+        return own, more
+
+    def plain(self, answer):
+        return answer.rows if isinstance(answer, Code) else vars(answer) if isinstance(answer, Uncut) else answer
+
+    def test_them(self):
+        own, more = self.arguments()
+        for module, told in INTERFACE.items():
+            for one in told:
+                names = one.split("(")[0].split(".")
+                thing = getattr(importlib.import_module("typegate." + module), names[0])
+                if len(names) == 2:
+                    thing = getattr(self.object(names[0], own["world"]), names[1])
+                parts = inspect.signature(thing).parameters
+                known = {**own, **more.get(names[-1], {})}
+                given = {name: known[name] for name in parts}
+                positions = [given[name] for name in parts if parts[name].kind != inspect.Parameter.KEYWORD_ONLY]
+                rest = {name: given[name] for name in parts if parts[name].kind == inspect.Parameter.KEYWORD_ONLY}
+                answers = [thing(*positions, **rest), thing(**given), thing(**{name: given[name] for name in reversed(list(given))})]
+                if names[-1] not in ("World", "Machine"):
+                    self.assertTrue(self.plain(answers[0]) == self.plain(answers[1]) == self.plain(answers[2]), one)
+
+    def object(self, name, world):
+        if name == "World":
+            return world
+        machine = Machine(World({"a": {"A": file("A", methods=[made("go", [("string", "x"), ("pop",), ("return",)])])}}))
+        machine.call("a", "A", "go", "()V", [])
+        return machine
+
+
 class Kept(ErrorCase):
     """Lists and dicts that are emptied behind each call, and what is told of them afterwards."""
 
