@@ -285,9 +285,10 @@ class Protected(ErrorCase):
         self.judge(MISSING, ("invokevirtual", "Object", "clone", "()LObject;"), [thing("Gone")])
 
     def test_interfaces(self):
-        # Any object fits an interface, but a protected member is none of an interface.
+        # Any object fits an interface, and by a class such a call resolves nothing.
         self.judge(None, ("invokeinterface", "Cloneable", "m", "()V"), [thing("T")])
-        self.judge("protected", ("invokeinterface", "p/P", "m", "()V"), [thing("T")])
+        self.judge(None, ("invokeinterface", "p/P", "m", "()V"), [thing("T")])
+        self.judge("sort", ("invokeinterface", "p/P", "m", "()V"), [thing("String")])
 
     def test_copies(self):
         row = ("invokevirtual", "Object", "clone", "()LObject;")

@@ -42,7 +42,8 @@ def _is_own_field(task, row):
 def _look_at_object(task, state, row, entry):
     """Refuse an object that does not fit the named class, or on which a protected member may not be used."""
     state.want(task.can_stand(entry, ("object", row[1])), "sort")
-    if not _is_protected_above(task, row) or _is_copied_array(row, entry):
+    # A call by an interface finds no member by a class.
+    if row[0] == "invokeinterface" or not _is_protected_above(task, row) or _is_copied_array(row, entry):
         return
     state.want(task.can_stand(entry, task.own_entry()), "protected")
 
