@@ -237,6 +237,16 @@ class Nodes(unittest.TestCase):
                         self.assertNotIn("%", node.value, path)
                         self.assertFalse(node.value.endswith(("._", ".__")), path)
 
+    def test_no_star_stands_in_an_index(self):
+        for path, node in nodes(ast.Subscript):
+            stars = [part for part in ast.walk(node.slice) if isinstance(part, ast.Starred)]
+            self.assertEqual(stars, [], (path, node.lineno))
+
+    def test_no_star_stands_in_a_set(self):
+        for path, node in nodes(ast.Set):
+            stars = [part for part in node.elts if isinstance(part, ast.Starred)]
+            self.assertEqual(stars, [], (path, node.lineno))
+
     def test_is_stands_beside_none_true_and_false(self):
         for path, node in nodes(ast.Compare):
             for sign, other in zip(node.ops, node.comparators):

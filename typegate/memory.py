@@ -92,7 +92,8 @@ class Memory:
         for one in self.world.lineage.line_of(cls):
             for name, descriptor, flags, _ in self.world.file_of(one).fields:
                 if "static" not in flags:
-                    fields[(*one, name, descriptor)] = default_of(descriptor)
+                    member = (*one, name, descriptor)
+                    fields[member] = default_of(descriptor)
         return reference
 
     def made_array(self, actual, many):

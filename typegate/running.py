@@ -152,7 +152,8 @@ def _set_constants(memory, cls):
         if constant is not None:
             is_text = isinstance(constant, str)
             value = memory.string(constant) if is_text else narrowed(descriptor, constant)
-            memory.static_values[(*cls, name, descriptor)] = value
+            member = (*cls, name, descriptor)
+            memory.static_values[member] = value
 
 
 class Run:
